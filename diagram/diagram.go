@@ -1,0 +1,142 @@
+// Package diagram: truth functions as decision diagrams, and what a circuit can come to: see DOC.md.
+package diagram
+
+import (
+	"diagram/api"
+	"diagram/nodes"
+)
+
+// Store: functions that are held.
+type Store struct {
+	variables int
+	limit     int
+	given     int // the handles up to this one
+	held      map[int]nodes.Function
+	table     *nodes.Table // has just the nodes of what is held; xi is at level i
+}
+
+// New makes a store (P3).
+func New(variables int, limit int) (*Store, api.Errno) {
+	if variables < 1 || variables > api.MaxVariables || limit < 0 || limit > api.MaxLimit {
+		return nil, api.ErrRange
+	}
+	return &Store{variables: variables, limit: limit, held: map[int]nodes.Function{}, table: nodes.NewTable()}, api.OK
+}
+
+// Constant holds a constant (P4).
+func (s *Store) Constant(value bool) (int, api.Errno) {
+	return s.hold(func() nodes.Function {
+		if value {
+			return nodes.True
+		}
+		return nodes.False
+	})
+}
+
+// Variable holds a variable (P4).
+func (s *Store) Variable(i int) (int, api.Errno) {
+	if i < 0 || i >= s.variables {
+		return 0, api.ErrVariable
+	}
+	return s.hold(func() nodes.Function { return s.table.Variable(i) })
+}
+
+// Not holds what a function is not (P4).
+func (s *Store) Not(f int) (int, api.Errno) {
+	of, refusal := s.find(f)
+	if refusal != api.OK {
+		return 0, refusal
+	}
+	return s.hold(func() nodes.Function { return s.table.Not(of[0]) })
+}
+
+// Apply holds two functions, combined (P4).
+func (s *Store) Apply(what int, f int, g int) (int, api.Errno) {
+	of, refusal := s.find(f, g)
+	if refusal != api.OK {
+		return 0, refusal
+	}
+	if what < api.And || what > api.Implies {
+		return 0, api.ErrRange
+	}
+	return s.hold(func() nodes.Function { return combine(s.table, what, of[0], of[1]) })
+}
+
+// Choose holds one function or another, by a third (P4).
+func (s *Store) Choose(f int, g int, h int) (int, api.Errno) {
+	of, refusal := s.find(f, g, h)
+	if refusal != api.OK {
+		return 0, refusal
+	}
+	return s.hold(func() nodes.Function { return s.table.Choose(of[0], of[1], of[2]) })
+}
+
+// Release lets a handle go (P5).
+func (s *Store) Release(f int) api.Errno {
+	if _, refusal := s.find(f); refusal != api.OK {
+		return refusal
+	}
+	delete(s.held, f)
+	s.forget()
+	return api.OK
+}
+
+// Same tells whether two functions are the same (P5).
+func (s *Store) Same(f int, g int) (bool, api.Errno) {
+	of, refusal := s.find(f, g)
+	if refusal != api.OK {
+		return false, refusal
+	}
+	return of[0] == of[1], api.OK
+}
+
+// Value tells a function's value (P5).
+func (s *Store) Value(f int, assignment []bool) (bool, api.Errno) {
+	of, refusal := s.find(f)
+	if refusal != api.OK {
+		return false, refusal
+	}
+	if len(assignment) != s.variables {
+		return false, api.ErrRange
+	}
+	return s.table.Value(of[0], assignment), api.OK
+}
+
+// Count tells how often a function is true (P5).
+func (s *Store) Count(f int) (int, api.Errno) {
+	of, refusal := s.find(f)
+	if refusal != api.OK {
+		return 0, refusal
+	}
+	return s.table.Count(of[0], s.variables), api.OK
+}
+
+// Nodes tells how many nodes there are (P5).
+func (s *Store) Nodes() int { return s.table.Len() }
+
+// Restrict holds a function with a variable given (P6).
+func (s *Store) Restrict(f int, i int, value bool) (int, api.Errno) { return 0, api.OK }
+
+// Exists holds whether there are values for variables (P6).
+func (s *Store) Exists(f int, variables []int) (int, api.Errno) { return 0, api.OK }
+
+// Swap holds a function with two variables in each other's place (P6).
+func (s *Store) Swap(f int, i int, j int) (int, api.Errno) { return 0, api.OK }
+
+// Least tells the least assignment of which a function is true (P7).
+func (s *Store) Least(f int) ([]bool, api.Errno) { return nil, api.OK }
+
+// Size tells how many nodes a function has (P7).
+func (s *Store) Size(f int) (int, api.Errno) { return 0, api.OK }
+
+// Order tells the order (P8).
+func (s *Store) Order() []int { return nil }
+
+// Reorder gives the store another order (P8).
+func (s *Store) Reorder(order []int) api.Errno { return api.OK }
+
+// Sift looks for a better order (P8).
+func (s *Store) Sift() {}
+
+// Check looks at a circuit (P9).
+func Check(circuit string) (api.Verdict, api.Errno, int) { return api.Verdict{}, api.OK, 0 }

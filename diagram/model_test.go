@@ -1,0 +1,182 @@
+package diagram_test
+
+import (
+	"testing"
+
+	"diagram/api"
+	"diagram/diagram"
+)
+
+// model is a store by the words of the document: functions as lists of values, by the numbers of assignments.
+type model struct {
+	variables, limit, given int
+	held                    map[int]string
+}
+
+func newModel(variables, limit int) *model {
+	return &model{variables: variables, limit: limit, held: map[int]string{}}
+}
+
+// table makes a list of values of what a function is at the number of an assignment.
+func (m *model) table(value func(number int) bool) string {
+	values := make([]byte, 1<<m.variables)
+	for number := range values {
+		values[number] = '0'
+		if value(number) {
+			values[number] = '1'
+		}
+	}
+	return string(values)
+}
+
+// assignment is the one with that number.
+func assignment(variables, number int) []bool {
+	values := make([]bool, variables)
+	for i := range values {
+		values[i] = number>>(variables-1-i)&1 == 1
+	}
+	return values
+}
+
+// has tells whether these are held.
+func (m *model) has(handles ...int) bool {
+	for _, handle := range handles {
+		if _, ok := m.held[handle]; !ok {
+			return false
+		}
+	}
+	return true
+}
+
+// nodes counts the nodes of what is held and of some others, as section 'Words' says.
+func (m *model) nodes(others ...string) int {
+	type place struct {
+		level int
+		part  string
+	}
+	found := map[place]bool{}
+	gather := func(table string) {
+		for level := range m.variables {
+			width := len(table) >> level
+			for from := 0; from < len(table); from += width {
+				part := table[from : from+width]
+				if part[:width/2] != part[width/2:] {
+					found[place{level, part}] = true
+				}
+			}
+		}
+	}
+	for _, table := range m.held {
+		gather(table)
+	}
+	for _, table := range others {
+		gather(table)
+	}
+	return len(found)
+}
+
+func (m *model) hold(table string) (int, api.Errno) {
+	if len(m.held) >= api.MaxHandles {
+		return 0, api.ErrLimit
+	}
+	if m.nodes(table) > m.limit {
+		return 0, api.ErrFull
+	}
+	m.given++
+	m.held[m.given] = table
+	return m.given, api.OK
+}
+
+func (m *model) Constant(value bool) (int, api.Errno) {
+	return m.hold(m.table(func(int) bool { return value }))
+}
+
+func (m *model) Variable(i int) (int, api.Errno) {
+	if i < 0 || i >= m.variables {
+		return 0, api.ErrVariable
+	}
+	return m.hold(m.table(func(number int) bool { return assignment(m.variables, number)[i] }))
+}
+
+func (m *model) Not(f int) (int, api.Errno) {
+	if !m.has(f) {
+		return 0, api.ErrHandle
+	}
+	return m.hold(m.table(func(number int) bool { return m.held[f][number] == '0' }))
+}
+
+func (m *model) Apply(what, f, g int) (int, api.Errno) {
+	if !m.has(f, g) {
+		return 0, api.ErrHandle
+	}
+	if what < 0 || what > 3 {
+		return 0, api.ErrRange
+	}
+	return m.hold(m.table(func(number int) bool {
+		a, b := m.held[f][number] == '1', m.held[g][number] == '1'
+		return [4]bool{a && b, a || b, a != b, !a || b}[what]
+	}))
+}
+
+func (m *model) Choose(f, g, h int) (int, api.Errno) {
+	if !m.has(f, g, h) {
+		return 0, api.ErrHandle
+	}
+	return m.hold(m.table(func(number int) bool {
+		if m.held[f][number] == '1' {
+			return m.held[g][number] == '1'
+		}
+		return m.held[h][number] == '1'
+	}))
+}
+
+func (m *model) Release(f int) api.Errno {
+	if !m.has(f) {
+		return api.ErrHandle
+	}
+	delete(m.held, f)
+	return api.OK
+}
+
+// agree holds all that can be asked of a store against the model.
+func (m *model) agree(t *testing.T, s *diagram.Store) {
+	t.Helper()
+	if got, want := s.Nodes(), m.nodes(); got != want {
+		t.Fatalf("Nodes() = %d, want %d", got, want)
+	}
+	for f := -1; f <= m.given+1; f++ {
+		m.agreeOn(t, s, f)
+	}
+}
+
+// agreeOn holds what can be asked of one handle against the model.
+func (m *model) agreeOn(t *testing.T, s *diagram.Store, f int) {
+	t.Helper()
+	table, held := m.held[f]
+	wantError := api.OK
+	if !held {
+		wantError = api.ErrHandle
+	}
+	wantCount := 0
+	for number := range 1 << m.variables {
+		want := held && table[number] == '1'
+		if want {
+			wantCount++
+		}
+		if got, e := s.Value(f, assignment(m.variables, number)); got != want || e != wantError {
+			t.Fatalf("Value(%d, of number %d) = %v, %d, want %v, %d", f, number, got, e, want, wantError)
+		}
+	}
+	if got, e := s.Count(f); got != wantCount || e != wantError {
+		t.Fatalf("Count(%d) = %d, %d, want %d, %d", f, got, e, wantCount, wantError)
+	}
+	for g := range m.held {
+		want := held && table == m.held[g]
+		if got, e := s.Same(f, g); got != want || e != wantError {
+			t.Fatalf("Same(%d, %d) = %v, %d, want %v, %d", f, g, got, e, want, wantError)
+		}
+		if got, e := s.Same(g, f); got != want || e != wantError {
+			t.Fatalf("Same(%d, %d) = %v, %d, want %v, %d", g, f, got, e, want, wantError)
+		}
+	}
+}
