@@ -35,8 +35,8 @@ func (s *Store) Constant(value bool) (int, api.Errno) {
 
 // Variable holds a variable (P4).
 func (s *Store) Variable(i int) (int, api.Errno) {
-	if i < 0 || i >= s.variables {
-		return 0, api.ErrVariable
+	if refusal := s.known(i); refusal != api.OK {
+		return 0, refusal
 	}
 	return s.hold(func() nodes.Function { return s.table.Variable(i) })
 }
@@ -115,19 +115,67 @@ func (s *Store) Count(f int) (int, api.Errno) {
 func (s *Store) Nodes() int { return s.table.Len() }
 
 // Restrict holds a function with a variable given (P6).
-func (s *Store) Restrict(f int, i int, value bool) (int, api.Errno) { return 0, api.OK }
+func (s *Store) Restrict(f int, i int, value bool) (int, api.Errno) {
+	of, refusal := s.findWith(f, i)
+	if refusal != api.OK {
+		return 0, refusal
+	}
+	return s.hold(func() nodes.Function { return s.table.Restrict(of, i, value) })
+}
 
 // Exists holds whether there are values for variables (P6).
-func (s *Store) Exists(f int, variables []int) (int, api.Errno) { return 0, api.OK }
+func (s *Store) Exists(f int, variables []int) (int, api.Errno) {
+	of, refusal := s.findWith(f, variables...)
+	if refusal != api.OK {
+		return 0, refusal
+	}
+	free := make([]bool, s.variables)
+	for _, i := range variables {
+		free[i] = true
+	}
+	return s.hold(func() nodes.Function { return s.table.Exists(of, free) })
+}
 
 // Swap holds a function with two variables in each other's place (P6).
-func (s *Store) Swap(f int, i int, j int) (int, api.Errno) { return 0, api.OK }
+func (s *Store) Swap(f int, i int, j int) (int, api.Errno) {
+	of, refusal := s.findWith(f, i, j)
+	if refusal != api.OK {
+		return 0, refusal
+	}
+	return s.hold(func() nodes.Function { return s.table.Swap(of, i, j) })
+}
 
 // Least tells the least assignment of which a function is true (P7).
-func (s *Store) Least(f int) ([]bool, api.Errno) { return nil, api.OK }
+func (s *Store) Least(f int) ([]bool, api.Errno) {
+	of, refusal := s.find(f)
+	if refusal != api.OK {
+		return nil, refusal
+	}
+	weights := make([]int, s.variables)
+	for i := range weights {
+		weights[i] = 1 << (s.variables - 1 - i)
+	}
+	number, ok := s.table.Least(of[0], weights)
+	if !ok {
+		return nil, api.OK
+	}
+	assignment := make([]bool, s.variables)
+	for i, weight := range weights {
+		assignment[i] = number&weight != 0
+	}
+	return assignment, api.OK
+}
 
 // Size tells how many nodes a function has (P7).
-func (s *Store) Size(f int) (int, api.Errno) { return 0, api.OK }
+func (s *Store) Size(f int) (int, api.Errno) {
+	of, refusal := s.find(f)
+	if refusal != api.OK {
+		return 0, refusal
+	}
+	has := nodes.Set{}
+	s.table.Gather(of[0], has)
+	return len(has), api.OK
+}
 
 // Order tells the order (P8).
 func (s *Store) Order() []int { return nil }

@@ -18,6 +18,25 @@ func (s *Store) find(handles ...int) ([]nodes.Function, api.Errno) {
 	return found, api.OK
 }
 
+// known tells whether these are variables of the store.
+func (s *Store) known(variables ...int) api.Errno {
+	for _, i := range variables {
+		if i < 0 || i >= s.variables {
+			return api.ErrVariable
+		}
+	}
+	return api.OK
+}
+
+// findWith gives the function of a handle, where it is held and these are variables.
+func (s *Store) findWith(handle int, variables ...int) (nodes.Function, api.Errno) {
+	found, refusal := s.find(handle)
+	if refusal != api.OK {
+		return nodes.False, refusal
+	}
+	return found[0], s.known(variables...)
+}
+
 // hold gives a new handle to what is made, unless that would be too much.
 func (s *Store) hold(made func() nodes.Function) (int, api.Errno) {
 	if len(s.held) >= api.MaxHandles {

@@ -1,6 +1,9 @@
 package diagram_test
 
 import (
+	"maps"
+	"slices"
+	"strings"
 	"testing"
 
 	"diagram/api"
@@ -38,6 +41,31 @@ func assignment(variables, number int) []bool {
 	return values
 }
 
+// numberOf is the number of an assignment.
+func numberOf(values []bool) int {
+	number := 0
+	for _, value := range values {
+		number *= 2
+		if value {
+			number++
+		}
+	}
+	return number
+}
+
+// with tells what is wrong with a handle and some variables.
+func (m *model) with(f int, variables ...int) api.Errno {
+	if !m.has(f) {
+		return api.ErrHandle
+	}
+	for _, i := range variables {
+		if i < 0 || i >= m.variables {
+			return api.ErrVariable
+		}
+	}
+	return api.OK
+}
+
 // has tells whether these are held.
 func (m *model) has(handles ...int) bool {
 	for _, handle := range handles {
@@ -48,14 +76,19 @@ func (m *model) has(handles ...int) bool {
 	return true
 }
 
-// nodes counts the nodes of what is held and of some others, as section 'Words' says.
+// nodes counts the nodes of what is held and of some others together.
 func (m *model) nodes(others ...string) int {
+	return m.size(slices.AppendSeq(slices.Clone(others), maps.Values(m.held))...)
+}
+
+// size counts the nodes of some functions together, as section 'Words' says.
+func (m *model) size(tables ...string) int {
 	type place struct {
 		level int
 		part  string
 	}
 	found := map[place]bool{}
-	gather := func(table string) {
+	for _, table := range tables {
 		for level := range m.variables {
 			width := len(table) >> level
 			for from := 0; from < len(table); from += width {
@@ -65,12 +98,6 @@ func (m *model) nodes(others ...string) int {
 				}
 			}
 		}
-	}
-	for _, table := range m.held {
-		gather(table)
-	}
-	for _, table := range others {
-		gather(table)
 	}
 	return len(found)
 }
@@ -130,6 +157,46 @@ func (m *model) Choose(f, g, h int) (int, api.Errno) {
 	}))
 }
 
+func (m *model) Restrict(f, i int, value bool) (int, api.Errno) {
+	if e := m.with(f, i); e != api.OK {
+		return 0, e
+	}
+	return m.hold(m.table(func(number int) bool {
+		values := assignment(m.variables, number)
+		values[i] = value
+		return m.held[f][numberOf(values)] == '1'
+	}))
+}
+
+func (m *model) Exists(f int, variables []int) (int, api.Errno) {
+	if e := m.with(f, variables...); e != api.OK {
+		return 0, e
+	}
+	free := 0
+	for _, i := range variables {
+		free |= 1 << (m.variables - 1 - i)
+	}
+	return m.hold(m.table(func(number int) bool {
+		for other, value := range m.held[f] {
+			if value == '1' && other&^free == number&^free {
+				return true
+			}
+		}
+		return false
+	}))
+}
+
+func (m *model) Swap(f, i, j int) (int, api.Errno) {
+	if e := m.with(f, i, j); e != api.OK {
+		return 0, e
+	}
+	return m.hold(m.table(func(number int) bool {
+		values := assignment(m.variables, number)
+		values[i], values[j] = values[j], values[i]
+		return m.held[f][numberOf(values)] == '1'
+	}))
+}
+
 func (m *model) Release(f int) api.Errno {
 	if !m.has(f) {
 		return api.ErrHandle
@@ -170,6 +237,7 @@ func (m *model) agreeOn(t *testing.T, s *diagram.Store, f int) {
 	if got, e := s.Count(f); got != wantCount || e != wantError {
 		t.Fatalf("Count(%d) = %d, %d, want %d, %d", f, got, e, wantCount, wantError)
 	}
+	m.agreeOnLeastAndSize(t, s, f)
 	for g := range m.held {
 		want := held && table == m.held[g]
 		if got, e := s.Same(f, g); got != want || e != wantError {
@@ -178,5 +246,24 @@ func (m *model) agreeOn(t *testing.T, s *diagram.Store, f int) {
 		if got, e := s.Same(g, f); got != want || e != wantError {
 			t.Fatalf("Same(%d, %d) = %v, %d, want %v, %d", g, f, got, e, want, wantError)
 		}
+	}
+}
+
+// agreeOnLeastAndSize holds those of one handle against the model.
+func (m *model) agreeOnLeastAndSize(t *testing.T, s *diagram.Store, f int) {
+	t.Helper()
+	var least []bool
+	size, wantError := 0, api.ErrHandle
+	if table, held := m.held[f]; held {
+		size, wantError = m.size(table), api.OK
+		if number := strings.IndexByte(table, '1'); number >= 0 {
+			least = assignment(m.variables, number)
+		}
+	}
+	if got, e := s.Least(f); !slices.Equal(got, least) || (got == nil) != (least == nil) || e != wantError {
+		t.Fatalf("Least(%d) = %v, %d, want %v, %d", f, got, e, least, wantError)
+	}
+	if got, e := s.Size(f); got != size || e != wantError {
+		t.Fatalf("Size(%d) = %d, %d, want %d, %d", f, got, e, size, wantError)
 	}
 }

@@ -18,43 +18,79 @@ type calls interface {
 	Not(f int) (int, api.Errno)
 	Apply(what, f, g int) (int, api.Errno)
 	Choose(f, g, h int) (int, api.Errno)
+	Restrict(f, i int, value bool) (int, api.Errno)
+	Exists(f int, variables []int) (int, api.Errno)
+	Swap(f, i, j int) (int, api.Errno)
 	Release(f int) api.Errno
 }
 
-// step is one call of them: which, and its arguments.
+// The kinds of steps.
+const (
+	constant = iota
+	variable
+	not
+	apply
+	choose
+	restrict
+	exists
+	swap
+	release
+)
+
+// step is one call of them: which, with which handles, and the other arguments.
 type step struct {
-	which   int
-	a, b, c int
+	which     int
+	f, g, h   int
+	what      int
+	value     bool
+	variables []int
 }
 
 func (x step) do(on calls) (int, api.Errno) {
 	switch x.which {
-	case 0:
-		return on.Constant(x.a%2 == 0)
-	case 1:
-		return on.Variable(x.a)
-	case 2:
-		return on.Not(x.b)
-	case 3, 4, 5:
-		return on.Apply(x.a, x.b, x.c)
-	case 6, 7:
-		return on.Choose(x.a, x.b, x.c)
+	case constant:
+		return on.Constant(x.value)
+	case variable:
+		return on.Variable(x.variables[0])
+	case not:
+		return on.Not(x.f)
+	case apply:
+		return on.Apply(x.what, x.f, x.g)
+	case choose:
+		return on.Choose(x.f, x.g, x.h)
+	case restrict:
+		return on.Restrict(x.f, x.variables[0], x.value)
+	case exists:
+		return on.Exists(x.f, x.variables[2:])
+	case swap:
+		return on.Swap(x.f, x.variables[0], x.variables[1])
 	default:
-		return 0, on.Release(x.a)
+		return 0, on.Release(x.f)
 	}
+}
+
+// kinds has those oftener that bring functions which share little, or let them go.
+func kinds() []int {
+	return []int{constant, variable, variable, not, apply, apply, apply, choose, choose, restrict, exists, swap, swap, release, release}
 }
 
 // drawn is a step that mostly may be done with the model, and sometimes not.
 func drawn(r *rand.Rand, m *model) step {
-	x := step{r.Intn(9), r.Intn(4), drawnHandle(r, m), drawnHandle(r, m)}
-	switch {
-	case x.which == 1:
-		x.a = r.Intn(m.variables)
-	case x.which >= 6:
-		x.a = drawnHandle(r, m)
+	x := step{
+		which: kinds()[r.Intn(len(kinds()))],
+		f:     drawnHandle(r, m),
+		g:     drawnHandle(r, m),
+		h:     drawnHandle(r, m),
+		what:  r.Intn(4),
+		value: r.Intn(2) == 0,
+	}
+	for range 2 + r.Intn(4) {
+		x.variables = append(x.variables, r.Intn(m.variables))
 	}
 	if r.Intn(20) == 0 {
-		x.a = []int{-1, 4, m.variables, math.MaxInt, math.MinInt}[r.Intn(5)]
+		wrong := []int{-1, math.MaxInt, math.MinInt}[r.Intn(3)]
+		x.what = []int{wrong, 4}[r.Intn(2)]
+		x.variables[r.Intn(len(x.variables))] = []int{wrong, m.variables}[r.Intn(2)]
 	}
 	return x
 }
@@ -88,17 +124,17 @@ func TestP4Greatest(t *testing.T) {
 	r := rand.New(rand.NewSource(8))
 	s, m := store(t, api.MaxVariables, api.MaxLimit), newModel(api.MaxVariables, api.MaxLimit)
 	for i := range m.variables {
-		alike(t, s, m, step{which: 1, a: i})
+		alike(t, s, m, step{which: variable, variables: []int{i}})
 	}
 	oldest := 1
 fill:
 	for range 1000 {
-		kinds := []step{{6, drawnHeld(r, m), drawnHeld(r, m), drawnHeld(r, m)}, {3, api.Xor, drawnHeld(r, m), drawnHeld(r, m)}}
-		switch _, e := alike(t, s, m, kinds[r.Intn(2)]); e {
+		x := step{which: []int{choose, apply}[r.Intn(2)], what: api.Xor, f: drawnHeld(r, m), g: drawnHeld(r, m), h: drawnHeld(r, m)}
+		switch _, e := alike(t, s, m, x); e {
 		case api.ErrFull:
 			break fill
 		case api.ErrLimit:
-			alike(t, s, m, step{which: 8, a: oldest})
+			alike(t, s, m, step{which: release, f: oldest})
 			oldest++
 		}
 	}
@@ -108,8 +144,8 @@ fill:
 	m.agree(t, s)
 }
 
-// TestP4P5Walk: long ways of calls, right and wrong, against the words of the document.
-func TestP4P5Walk(t *testing.T) {
+// TestP4ToP7Walk: long ways of calls, right and wrong, against the words of the document.
+func TestP4ToP7Walk(t *testing.T) {
 	errors := map[api.Errno]int{}
 	for variables := 1; variables <= api.MaxVariables; variables++ {
 		for _, limit := range []int{0, variables, 3 * variables, 60, api.MaxLimit} {

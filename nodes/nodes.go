@@ -137,6 +137,31 @@ func (t *Table) count(f Function, done map[Function]int) int {
 	return done[f]
 }
 
+// Least tells the least sum of weights of which f is true, and whether there is one; a weight counts where the variable at its level is true.
+func (t *Table) Least(f Function, weights []int) (int, bool) {
+	if f == False {
+		return 0, false
+	}
+	return t.least(f, weights, map[Function]int{True: 0}), true
+}
+
+func (t *Table) least(f Function, weights []int, done map[Function]int) int {
+	if known, ok := done[f]; ok {
+		return known
+	}
+	n := t.nodes[f]
+	// What no node asks is false in the least. Never do both ways lead to False: such a node would ask in vain.
+	switch {
+	case n.low == False:
+		done[f] = weights[n.level] + t.least(n.high, weights, done)
+	case n.high == False:
+		done[f] = t.least(n.low, weights, done)
+	default:
+		done[f] = min(t.least(n.low, weights, done), weights[n.level]+t.least(n.high, weights, done))
+	}
+	return done[f]
+}
+
 // Gather puts the nodes of f into the set.
 func (t *Table) Gather(f Function, into Set) {
 	n, ok := t.nodes[f]

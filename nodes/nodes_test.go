@@ -81,6 +81,32 @@ func TestCountOverLevelsThatAreNotAsked(t *testing.T) {
 	}
 }
 
+// TestLeastByWeights: in whichever order of levels the weights stand.
+func TestLeastByWeights(t *testing.T) {
+	table := NewTable()
+	x, y, z := table.Variable(0), table.Variable(1), table.Variable(2)
+	or := table.Choose(x, True, table.Choose(y, z, False)) // x, or y and z
+	size := table.Len()
+	for _, c := range []struct {
+		f       Function
+		weights []int
+		want    int
+	}{
+		{or, []int{4, 2, 1}, 3}, {or, []int{1, 2, 4}, 1}, {or, []int{2, 4, 1}, 2}, {or, []int{4, 1, 2}, 3},
+		{True, []int{4, 2, 1}, 0}, {z, []int{4, 2, 1}, 1}, {z, []int{1, 2, 4}, 4},
+	} {
+		if got, ok := table.Least(c.f, c.weights); got != c.want || !ok {
+			t.Errorf("Least(%d, %v) = %d, %v, want %d", c.f, c.weights, got, ok, c.want)
+		}
+	}
+	if got, ok := table.Least(False, []int{4, 2, 1}); got != 0 || ok {
+		t.Errorf("Least of False = %d, %v", got, ok)
+	}
+	if table.Len() != size {
+		t.Errorf("%d nodes, were %d", table.Len(), size)
+	}
+}
+
 func TestKeepForgetsTheOthers(t *testing.T) {
 	table := NewTable()
 	x, y, z := table.Variable(0), table.Variable(1), table.Variable(2)
