@@ -2,17 +2,19 @@
 package diagram
 
 import (
+	"slices"
+
 	"diagram/api"
 	"diagram/nodes"
 )
 
 // Store: functions that are held.
 type Store struct {
-	variables int
-	limit     int
-	given     int // the handles up to this one
-	held      map[int]nodes.Function
-	table     *nodes.Table // has just the nodes of what is held; xi is at level i
+	limit int
+	given int // the handles up to this one
+	order []int
+	held  map[int]nodes.Function
+	table *nodes.Table // has just the nodes of what is held; its levels are the places of the order
 }
 
 // New makes a store (P3).
@@ -20,7 +22,11 @@ func New(variables int, limit int) (*Store, api.Errno) {
 	if variables < 1 || variables > api.MaxVariables || limit < 0 || limit > api.MaxLimit {
 		return nil, api.ErrRange
 	}
-	return &Store{variables: variables, limit: limit, held: map[int]nodes.Function{}, table: nodes.NewTable()}, api.OK
+	s := &Store{limit: limit, held: map[int]nodes.Function{}, table: nodes.NewTable()}
+	for i := range variables {
+		s.order = append(s.order, i)
+	}
+	return s, api.OK
 }
 
 // Constant holds a constant (P4).
@@ -38,7 +44,7 @@ func (s *Store) Variable(i int) (int, api.Errno) {
 	if refusal := s.known(i); refusal != api.OK {
 		return 0, refusal
 	}
-	return s.hold(func() nodes.Function { return s.table.Variable(i) })
+	return s.hold(func() nodes.Function { return s.table.Variable(s.place(i)) })
 }
 
 // Not holds what a function is not (P4).
@@ -96,10 +102,14 @@ func (s *Store) Value(f int, assignment []bool) (bool, api.Errno) {
 	if refusal != api.OK {
 		return false, refusal
 	}
-	if len(assignment) != s.variables {
+	if len(assignment) != len(s.order) {
 		return false, api.ErrRange
 	}
-	return s.table.Value(of[0], assignment), api.OK
+	values := make([]bool, len(s.order))
+	for place, i := range s.order {
+		values[place] = assignment[i]
+	}
+	return s.table.Value(of[0], values), api.OK
 }
 
 // Count tells how often a function is true (P5).
@@ -108,7 +118,7 @@ func (s *Store) Count(f int) (int, api.Errno) {
 	if refusal != api.OK {
 		return 0, refusal
 	}
-	return s.table.Count(of[0], s.variables), api.OK
+	return s.table.Count(of[0], len(s.order)), api.OK
 }
 
 // Nodes tells how many nodes there are (P5).
@@ -120,7 +130,7 @@ func (s *Store) Restrict(f int, i int, value bool) (int, api.Errno) {
 	if refusal != api.OK {
 		return 0, refusal
 	}
-	return s.hold(func() nodes.Function { return s.table.Restrict(of, i, value) })
+	return s.hold(func() nodes.Function { return s.table.Restrict(of, s.place(i), value) })
 }
 
 // Exists holds whether there are values for variables (P6).
@@ -129,9 +139,9 @@ func (s *Store) Exists(f int, variables []int) (int, api.Errno) {
 	if refusal != api.OK {
 		return 0, refusal
 	}
-	free := make([]bool, s.variables)
+	free := make([]bool, len(s.order))
 	for _, i := range variables {
-		free[i] = true
+		free[s.place(i)] = true
 	}
 	return s.hold(func() nodes.Function { return s.table.Exists(of, free) })
 }
@@ -142,7 +152,7 @@ func (s *Store) Swap(f int, i int, j int) (int, api.Errno) {
 	if refusal != api.OK {
 		return 0, refusal
 	}
-	return s.hold(func() nodes.Function { return s.table.Swap(of, i, j) })
+	return s.hold(func() nodes.Function { return s.table.Swap(of, s.place(i), s.place(j)) })
 }
 
 // Least tells the least assignment of which a function is true (P7).
@@ -151,17 +161,17 @@ func (s *Store) Least(f int) ([]bool, api.Errno) {
 	if refusal != api.OK {
 		return nil, refusal
 	}
-	weights := make([]int, s.variables)
-	for i := range weights {
-		weights[i] = 1 << (s.variables - 1 - i)
+	weights := make([]int, len(s.order))
+	for place, i := range s.order {
+		weights[place] = 1 << (len(s.order) - 1 - i)
 	}
 	number, ok := s.table.Least(of[0], weights)
 	if !ok {
 		return nil, api.OK
 	}
-	assignment := make([]bool, s.variables)
-	for i, weight := range weights {
-		assignment[i] = number&weight != 0
+	assignment := make([]bool, len(s.order))
+	for place, i := range s.order {
+		assignment[i] = number&weights[place] != 0
 	}
 	return assignment, api.OK
 }
@@ -178,13 +188,34 @@ func (s *Store) Size(f int) (int, api.Errno) {
 }
 
 // Order tells the order (P8).
-func (s *Store) Order() []int { return nil }
+func (s *Store) Order() []int { return slices.Clone(s.order) }
 
 // Reorder gives the store another order (P8).
-func (s *Store) Reorder(order []int) api.Errno { return api.OK }
+func (s *Store) Reorder(order []int) api.Errno {
+	if !s.isOrder(order) {
+		return api.ErrOrder
+	}
+	before := s.Order()
+	s.arrange(order)
+	if s.table.Len() > s.limit {
+		s.arrange(before)
+		return api.ErrFull
+	}
+	return api.OK
+}
 
 // Sift looks for a better order (P8).
-func (s *Store) Sift() {}
+func (s *Store) Sift() {
+search:
+	for {
+		for i := range len(s.order) {
+			if s.settle(i) {
+				continue search // what stayed ahead of it may now have a better place
+			}
+		}
+		break search
+	}
+}
 
 // Check looks at a circuit (P9).
 func Check(circuit string) (api.Verdict, api.Errno, int) { return api.Verdict{}, api.OK, 0 }

@@ -41,8 +41,8 @@ func TestExampleOfP6AndP7(t *testing.T) {
 	}
 }
 
-// held holds the function with these values, as the last of some.
-func held(t *testing.T, s *diagram.Store, m *model, values string) {
+// held holds the function with these values, and lets go what it is made of.
+func held(t *testing.T, s *diagram.Store, m *model, values string) int {
 	t.Helper()
 	var build func(i int, values string) int
 	build = func(i int, values string) int {
@@ -53,20 +53,23 @@ func held(t *testing.T, s *diagram.Store, m *model, values string) {
 		low, high := build(i+1, values[:len(values)/2]), build(i+1, values[len(values)/2:])
 		x, _ := alike(t, s, m, step{which: variable, variables: []int{i}})
 		f, _ := alike(t, s, m, step{which: choose, f: x, g: high, h: low})
+		for _, part := range []int{low, high, x} {
+			alike(t, s, m, step{which: release, f: part})
+		}
 		return f
 	}
-	build(0, values)
+	f := build(0, values)
+	if m.held[f] != values {
+		t.Fatalf("the values %s were too much to be held", values)
+	}
+	return f
 }
 
 // TestP6P7AllOfThree: each call, of all functions of three variables, with all variables.
 func TestP6P7AllOfThree(t *testing.T) {
 	for digits := range 256 {
 		s, m := store(t, 3, 100), newModel(3, 100)
-		held(t, s, m, m.table(func(number int) bool { return digits>>number&1 == 1 }))
-		f := m.given
-		for h := 1; h < f; h++ {
-			alike(t, s, m, step{which: release, f: h})
-		}
+		f := held(t, s, m, m.table(func(number int) bool { return digits>>number&1 == 1 }))
 		for i := range 3 {
 			alike(t, s, m, step{which: restrict, f: f, variables: []int{i}})
 			alike(t, s, m, step{which: restrict, f: f, variables: []int{i}, value: true})

@@ -21,7 +21,7 @@ func (s *Store) find(handles ...int) ([]nodes.Function, api.Errno) {
 // known tells whether these are variables of the store.
 func (s *Store) known(variables ...int) api.Errno {
 	for _, i := range variables {
-		if i < 0 || i >= s.variables {
+		if i < 0 || i >= len(s.order) {
 			return api.ErrVariable
 		}
 	}

@@ -13,11 +13,21 @@ import (
 // model is a store by the words of the document: functions as lists of values, by the numbers of assignments.
 type model struct {
 	variables, limit, given int
+	order                   []int
 	held                    map[int]string
 }
 
 func newModel(variables, limit int) *model {
-	return &model{variables: variables, limit: limit, held: map[int]string{}}
+	return &model{variables: variables, limit: limit, order: firstOrder(variables), held: map[int]string{}}
+}
+
+// firstOrder is x0, x1 and so on.
+func firstOrder(variables int) []int {
+	order := make([]int, variables)
+	for i := range order {
+		order[i] = i
+	}
+	return order
 }
 
 // table makes a list of values of what a function is at the number of an assignment.
@@ -77,22 +87,31 @@ func (m *model) has(handles ...int) bool {
 }
 
 // nodes counts the nodes of what is held and of some others together.
-func (m *model) nodes(others ...string) int {
-	return m.size(slices.AppendSeq(slices.Clone(others), maps.Values(m.held))...)
+func (m *model) nodes(others ...string) int { return m.nodesIn(m.order, others...) }
+
+// nodesIn counts them in any order.
+func (m *model) nodesIn(order []int, others ...string) int {
+	return size(order, slices.AppendSeq(slices.Clone(others), maps.Values(m.held))...)
 }
 
-// size counts the nodes of some functions together, as section 'Words' says.
-func (m *model) size(tables ...string) int {
+// size counts the nodes of some functions together in an order, as section 'Words' says.
+func size(order []int, tables ...string) int {
 	type place struct {
 		level int
 		part  string
 	}
 	found := map[place]bool{}
+	numbers := numbersBy(order)
 	for _, table := range tables {
-		for level := range m.variables {
-			width := len(table) >> level
-			for from := 0; from < len(table); from += width {
-				part := table[from : from+width]
+		values := make([]byte, len(table))
+		for k, number := range numbers {
+			values[k] = table[number]
+		}
+		turned := string(values)
+		for level := range order {
+			width := len(turned) >> level
+			for from := 0; from < len(turned); from += width {
+				part := turned[from : from+width]
 				if part[:width/2] != part[width/2:] {
 					found[place{level, part}] = true
 				}
@@ -100,6 +119,19 @@ func (m *model) size(tables ...string) int {
 		}
 	}
 	return len(found)
+}
+
+// numbersBy gives the numbers of all assignments, as they come when values are counted through by an order, not by x0, x1 ..
+func numbersBy(order []int) []int {
+	numbers := make([]int, 1<<len(order))
+	for k := range numbers {
+		values := make([]bool, len(order))
+		for place, value := range assignment(len(order), k) {
+			values[order[place]] = value
+		}
+		numbers[k] = numberOf(values)
+	}
+	return numbers
 }
 
 func (m *model) hold(table string) (int, api.Errno) {
@@ -205,9 +237,58 @@ func (m *model) Release(f int) api.Errno {
 	return api.OK
 }
 
+// isOrder tells whether a list has all variables, each once.
+func (m *model) isOrder(list []int) bool {
+	return slices.Equal(slices.Sorted(slices.Values(list)), firstOrder(m.variables))
+}
+
+func (m *model) Reorder(order []int) api.Errno {
+	if !m.isOrder(order) {
+		return api.ErrOrder
+	}
+	if m.nodesIn(order) > m.limit {
+		return api.ErrFull
+	}
+	m.order = slices.Clone(order)
+	return api.OK
+}
+
+// Sift leaves it to the store which order there is then: see follow.
+func (m *model) Sift() {}
+
+// follow takes over the order that a store found by a Sift, if it may be that one.
+func (m *model) follow(t *testing.T, s *diagram.Store) {
+	t.Helper()
+	order := s.Order()
+	if !m.isOrder(order) {
+		t.Fatalf("behind a Sift Order() = %v", order)
+	}
+	nodes := m.nodesIn(order)
+	if was := m.nodes(); nodes > was {
+		t.Fatalf("behind a Sift %v has %d nodes, ahead of it %v had %d", order, nodes, m.order, was)
+	}
+	for from := range order {
+		for to := range order {
+			other := moved(order, from, to)
+			if n := m.nodesIn(other); n < nodes {
+				t.Fatalf("behind a Sift %v has %d nodes, but %v has %d", order, nodes, other, n)
+			}
+		}
+	}
+	m.order = order
+}
+
+// moved is an order with the variable of one place brought to another.
+func moved(order []int, from, to int) []int {
+	return slices.Insert(slices.Delete(slices.Clone(order), from, from+1), to, order[from])
+}
+
 // agree holds all that can be asked of a store against the model.
 func (m *model) agree(t *testing.T, s *diagram.Store) {
 	t.Helper()
+	if got := s.Order(); !slices.Equal(got, m.order) {
+		t.Fatalf("Order() = %v, want %v", got, m.order)
+	}
 	if got, want := s.Nodes(), m.nodes(); got != want {
 		t.Fatalf("Nodes() = %d, want %d", got, want)
 	}
@@ -253,9 +334,9 @@ func (m *model) agreeOn(t *testing.T, s *diagram.Store, f int) {
 func (m *model) agreeOnLeastAndSize(t *testing.T, s *diagram.Store, f int) {
 	t.Helper()
 	var least []bool
-	size, wantError := 0, api.ErrHandle
+	wantSize, wantError := 0, api.ErrHandle
 	if table, held := m.held[f]; held {
-		size, wantError = m.size(table), api.OK
+		wantSize, wantError = size(m.order, table), api.OK
 		if number := strings.IndexByte(table, '1'); number >= 0 {
 			least = assignment(m.variables, number)
 		}
@@ -263,7 +344,7 @@ func (m *model) agreeOnLeastAndSize(t *testing.T, s *diagram.Store, f int) {
 	if got, e := s.Least(f); !slices.Equal(got, least) || (got == nil) != (least == nil) || e != wantError {
 		t.Fatalf("Least(%d) = %v, %d, want %v, %d", f, got, e, least, wantError)
 	}
-	if got, e := s.Size(f); got != size || e != wantError {
-		t.Fatalf("Size(%d) = %d, %d, want %d, %d", f, got, e, size, wantError)
+	if got, e := s.Size(f); got != wantSize || e != wantError {
+		t.Fatalf("Size(%d) = %d, %d, want %d, %d", f, got, e, wantSize, wantError)
 	}
 }

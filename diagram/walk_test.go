@@ -22,6 +22,8 @@ type calls interface {
 	Exists(f int, variables []int) (int, api.Errno)
 	Swap(f, i, j int) (int, api.Errno)
 	Release(f int) api.Errno
+	Reorder(order []int) api.Errno
+	Sift()
 }
 
 // The kinds of steps.
@@ -35,6 +37,8 @@ const (
 	exists
 	swap
 	release
+	reorder
+	sift
 )
 
 // step is one call of them: which, with which handles, and the other arguments.
@@ -44,6 +48,7 @@ type step struct {
 	what      int
 	value     bool
 	variables []int
+	order     []int
 }
 
 func (x step) do(on calls) (int, api.Errno) {
@@ -64,25 +69,35 @@ func (x step) do(on calls) (int, api.Errno) {
 		return on.Exists(x.f, x.variables[2:])
 	case swap:
 		return on.Swap(x.f, x.variables[0], x.variables[1])
-	default:
+	case release:
 		return 0, on.Release(x.f)
+	case reorder:
+		return 0, on.Reorder(x.order)
+	default:
+		on.Sift()
+		return 0, api.OK
 	}
 }
 
-// kinds has those oftener that bring functions which share little, or let them go.
-func kinds() []int {
-	return []int{constant, variable, variable, not, apply, apply, apply, choose, choose, restrict, exists, swap, swap, release, release}
+// drawnKind has those oftener that bring functions which share little, or let them go.
+func drawnKind(r *rand.Rand) int {
+	if r.Intn(60) == 0 {
+		return sift
+	}
+	kinds := []int{constant, variable, variable, not, apply, apply, apply, choose, choose, restrict, exists, swap, swap, release, release, reorder}
+	return kinds[r.Intn(len(kinds))]
 }
 
 // drawn is a step that mostly may be done with the model, and sometimes not.
 func drawn(r *rand.Rand, m *model) step {
 	x := step{
-		which: kinds()[r.Intn(len(kinds()))],
+		which: drawnKind(r),
 		f:     drawnHandle(r, m),
 		g:     drawnHandle(r, m),
 		h:     drawnHandle(r, m),
 		what:  r.Intn(4),
 		value: r.Intn(2) == 0,
+		order: r.Perm(m.variables),
 	}
 	for range 2 + r.Intn(4) {
 		x.variables = append(x.variables, r.Intn(m.variables))
@@ -91,6 +106,7 @@ func drawn(r *rand.Rand, m *model) step {
 		wrong := []int{-1, math.MaxInt, math.MinInt}[r.Intn(3)]
 		x.what = []int{wrong, 4}[r.Intn(2)]
 		x.variables[r.Intn(len(x.variables))] = []int{wrong, m.variables}[r.Intn(2)]
+		x.order[r.Intn(len(x.order))] = []int{wrong, m.variables}[r.Intn(2)]
 	}
 	return x
 }
@@ -115,6 +131,9 @@ func alike(t *testing.T, s *diagram.Store, m *model, x step) (int, api.Errno) {
 	want, wantError := x.do(m)
 	if got, e := x.do(s); got != want || e != wantError {
 		t.Fatalf("%d variables, limit %d, %+v: %d, %d, want %d, %d", m.variables, m.limit, x, got, e, want, wantError)
+	}
+	if x.which == sift {
+		m.follow(t, s)
 	}
 	return want, wantError
 }
@@ -144,8 +163,8 @@ fill:
 	m.agree(t, s)
 }
 
-// TestP4ToP7Walk: long ways of calls, right and wrong, against the words of the document.
-func TestP4ToP7Walk(t *testing.T) {
+// TestP4ToP8Walk: long ways of calls, right and wrong, against the words of the document.
+func TestP4ToP8Walk(t *testing.T) {
 	errors := map[api.Errno]int{}
 	for variables := 1; variables <= api.MaxVariables; variables++ {
 		for _, limit := range []int{0, variables, 3 * variables, 60, api.MaxLimit} {
@@ -164,7 +183,7 @@ func TestP4ToP7Walk(t *testing.T) {
 			}
 		}
 	}
-	for _, e := range []api.Errno{api.OK, api.ErrRange, api.ErrHandle, api.ErrVariable, api.ErrLimit, api.ErrFull} {
+	for _, e := range []api.Errno{api.OK, api.ErrRange, api.ErrHandle, api.ErrVariable, api.ErrLimit, api.ErrFull, api.ErrOrder} {
 		if errors[e] == 0 {
 			t.Errorf("no step came to the error %d", e)
 		}

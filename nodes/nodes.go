@@ -105,9 +105,14 @@ func (t *Table) join(n node) Function {
 		return known
 	}
 	t.last++
-	t.names[n] = t.last
-	t.nodes[t.last] = n
+	t.put(t.last, n)
 	return t.last
+}
+
+// put gives a function its node.
+func (t *Table) put(f Function, n node) {
+	t.names[n] = f
+	t.nodes[f] = n
 }
 
 // Value tells f's value, where values has one for each level.
