@@ -5,6 +5,7 @@ import (
 	"slices"
 
 	"diagram/api"
+	"diagram/circuits"
 	"diagram/nodes"
 )
 
@@ -218,4 +219,10 @@ search:
 }
 
 // Check looks at a circuit (P9).
-func Check(circuit string) (api.Verdict, api.Errno, int) { return api.Verdict{}, api.OK, 0 }
+func Check(circuit string) (api.Verdict, api.Errno, int) {
+	c, refusal, line := circuits.Read(circuit)
+	if refusal != api.OK {
+		return api.Verdict{}, refusal, line
+	}
+	return build(c).verdict(), api.OK, 0
+}
