@@ -26,11 +26,11 @@ func parse(words []string) (Expression, bool) {
 }
 
 // chain reads parts with the first of these signs between them; the others bind more. So deep it stands in brackets and !.
-func (p *parser) chain(signs string, deep int) bool {
-	if signs == "" {
+func (p *parser) chain(between string, deep int) bool {
+	if between == "" {
 		return p.single(deep)
 	}
-	sign, closer := signs[:1], signs[1:]
+	sign, closer := between[:1], between[1:]
 	if !p.chain(closer, deep) {
 		return false
 	}
